@@ -1,0 +1,1 @@
+"""Oftenenough: things that each must come once in any so many days."""
