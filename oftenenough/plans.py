@@ -9,10 +9,15 @@ MOST_THINGS = 8
 MOST_GAP = 10 ** 30
 
 
+def is_whole(value):
+    """Whether any value is an integer."""
+    # Python counts True and False among the integers, the document does not.
+    return isinstance(value, int) and not isinstance(value, bool)
+
+
 def is_between(value, low, high):
     """Whether any value is an integer from low to high."""
-    # Python counts True and False among the integers, the document does not.
-    return isinstance(value, int) and not isinstance(value, bool) and low <= value <= high
+    return is_whole(value) and low <= value <= high
 
 
 def is_gap(value):

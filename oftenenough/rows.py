@@ -8,13 +8,17 @@ from oftenenough.plans import is_between, need_plan
 MOST_DAYS = 1000
 
 
+def is_standing(gaps, value):
+    """Whether any value is a STANDING of things with these GAPS."""
+    if not isinstance(value, tuple) or len(value) != len(gaps):
+        return False
+    return all([is_between(left, 1, gap) for left, gap in zip(value, gaps)])
+
+
 def need_standing(gaps, standing):
     """The STANDING itself of things with these GAPS; BadStanding for any other value."""
-    if not isinstance(standing, tuple) or len(standing) != len(gaps):
+    if not is_standing(gaps, standing):
         raise BadStanding(standing)
-    for left, gap in zip(standing, gaps):
-        if not is_between(left, 1, gap):
-            raise BadStanding(standing)
     return standing
 
 

@@ -8,6 +8,12 @@ FUNCTIONS = {
               "without(plan, number)"),
     "rows": ("days_of(plan)", "right_days(plan, standing)", "behind(plan, standing, day)", "row_behind(plan, row)",
              "is_right(plan, value)"),
+    "standings": ("does_last(plan)", "lasts(plan, standing)", "least_standings(plan)",
+                  "lasting_days(plan, standing)", "longest(plan, standing)"),
+    "papers": ("is_round(plan, value)", "shortest_round(plan)", "plan_paper(plan)", "check_plan(plan, paper)"),
+    "parts": ("are_parts(plan, value)", "folded(plan, base)", "folded_share(plan, base)", "best_base(plan)",
+              "folded_parts(plan)", "day_by(plan, parts, day)", "next_by(plan, parts, number, day)",
+              "row_by(plan, parts, many)"),
 }
 CLASSES = {
     "errors": ("BadPlan(place)", "BadDay(value)", "BadRow(place)", "BadStanding(value)", "BadNumber(value)",

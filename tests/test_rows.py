@@ -3,23 +3,12 @@ import unittest
 
 from oftenenough.errors import BadDay, BadPlan, BadRow, BadStanding
 from oftenenough.rows import behind, days_of, is_right, right_days, row_behind
+from tests.plain import all_days, all_standings, comes_often_enough
 from tests.values import (
-    GREATEST_GAP, INTEGERS, LONG, NO_INTEGERS, PLANS, WRONG_PLANS, check_refused, check_result, nested, raised,
+    GREATEST_GAP, INTEGERS, LONG, NO_INTEGERS, PLANS, WRONG_PLANS, check_refused, check_result, raised, wrong_standings,
 )
 
 WALKED_PLANS = [(1, (1,)), (1, (3,)), (1, (2, 2)), (1, (2, 4, 4)), (2, (1, 2)), (2, (2, 2, 3)), (3, (1, 1)), (3, (2, 1, 3))]
-
-
-def all_days(plan):
-    """DAYS, told in another way: each choice of things, if they are not too many."""
-    hands, gaps = plan
-    choices = [tuple(number for number in range(len(gaps)) if choice >> number & 1)
-               for choice in range(2 ** len(gaps))]
-    return sorted(day for day in choices if len(day) <= hands)
-
-
-def all_standings(plan):
-    return itertools.product(*[range(1, gap + 1) for gap in plan[1]])
 
 
 def days_since(row, number):
@@ -28,22 +17,6 @@ def days_since(row, number):
         if number in day:
             return ago
     return len(row)
-
-
-def comes_often_enough(plan, row):
-    """Whether in any GAP DAYS of a row, one behind another, each thing comes."""
-    return all(any(number in day for day in row[start:start + gap])
-               for number, gap in enumerate(plan[1]) for start in range(len(row) - gap + 1))
-
-
-def wrong_standings(plan):
-    gaps = plan[1]
-    wrong = [value for value in NO_INTEGERS + INTEGERS if not isinstance(value, tuple)]
-    wrong += [(), gaps + (1,), gaps[1:], list(gaps), (gaps,), dict(enumerate(gaps)), nested(50), gaps + gaps]
-    for number in range(len(gaps)):
-        for left in NO_INTEGERS + (0, -1, gaps[number] + 1, LONG, -LONG):
-            wrong.append(gaps[:number] + (left,) + gaps[number + 1:])
-    return wrong
 
 
 def no_days(plan):

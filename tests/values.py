@@ -59,6 +59,16 @@ WRONG_PLANS = tuple(
 )
 
 
+def wrong_standings(plan):
+    gaps = plan[1]
+    wrong = [value for value in NO_INTEGERS + INTEGERS if not isinstance(value, tuple)]
+    wrong += [(), gaps + (1,), gaps[1:], list(gaps), (gaps,), dict(enumerate(gaps)), nested(50), gaps + gaps]
+    for number in range(len(gaps)):
+        for left in NO_INTEGERS + (0, -1, gaps[number] + 1, LONG, -LONG):
+            wrong.append(gaps[:number] + (left,) + gaps[number + 1:])
+    return wrong
+
+
 def raised(test, error, call, *values, **named):
     """The exception of exactly this class that the call raises, which changes nothing that it is passed."""
     before = repr((values, named))
