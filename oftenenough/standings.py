@@ -38,18 +38,35 @@ def due_in(standing):
     return tuple([number for number, left in enumerate(standing) if left == 1])
 
 
-def ways_of(plan):
-    """For each STANDING those behind the full DAYS that are right by it."""
-    _, gaps = plan
-    days = full_days(plan)
-    ways, right_by_due = {}, {}
-    for standing in standings_of(gaps):
+def steps_from(gaps, standing, days):
+    """DAYS that are right by a STANDING, each with the STANDING behind it."""
+    without_day = [left - 1 for left in standing]
+    steps = []
+    for day in days:
+        later = list(without_day)
+        for number in day:
+            later[number] = gaps[number]
+        steps.append((day, tuple(later)))
+    return steps
+
+
+def steps_of(gaps, days, standings):
+    """For each of the STANDINGS those of the DAYS that are right by it, each with the STANDING behind it."""
+    steps, right_by_due = {}, {}
+    for standing in standings:
         due = due_in(standing)
         # Which DAYS are right hangs on what is due alone, and many STANDINGS have the same due.
         if due not in right_by_due:
             right_by_due[due] = [day for day in days if has_all_due(standing, day)]
-        ways[standing] = [standing_behind(gaps, standing, day) for day in right_by_due[due]]
-    return ways
+        steps[standing] = steps_from(gaps, standing, right_by_due[due])
+    return steps
+
+
+def ways_of(plan):
+    """For each STANDING those behind the full DAYS that are right by it."""
+    _, gaps = plan
+    steps = steps_of(gaps, full_days(plan), standings_of(gaps))
+    return {standing: [later for _, later in steps[standing]] for standing in steps}
 
 
 def ranks_by(ways):
@@ -82,6 +99,15 @@ def lasting_ways(ways, ranks):
     """For each STANDING without a RANK those without one behind it."""
     return {standing: [later for later in ways[standing] if later not in ranks]
             for standing in ways if standing not in ranks}
+
+
+def lasting_steps(plan):
+    """For each STANDING that lasts, ascending, its right DAYS behind which one lasts, ascending, each with that one."""
+    _, gaps = plan
+    ranks = ranks_of(plan)
+    lasting = [standing for standing in standings_of(gaps) if standing not in ranks]
+    steps = steps_of(gaps, days_of(plan), lasting)
+    return {standing: [(day, later) for day, later in steps[standing] if later not in ranks] for standing in steps}
 
 
 def does_last(plan):

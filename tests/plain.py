@@ -1,6 +1,7 @@
 """What the document says, written as plainly as it can be and without regard to time, to compare with."""
 
 import itertools
+from fractions import Fraction
 
 
 def all_days(plan):
@@ -66,6 +67,11 @@ def goes_round(plan, days):
                for number, gap in enumerate(plan[1]) for start in range(len(days)))
 
 
+def is_round_plainly(plan, value):
+    return (isinstance(value, tuple) and 1 <= len(value) <= 1000
+            and all(repr(day) in [repr(each) for each in all_days(plan)] for day in value) and goes_round(plan, value))
+
+
 def fewest_days(plan, most):
     """How many DAYS a ROUND has at least, tried one by one; None if it has more than most."""
     for many in range(1, most + 1):
@@ -79,3 +85,30 @@ def are_lost(plan, ranks):
     """Whether what has the form of RANKS holds: behind each right DAY there is a lesser RANK to be at most of."""
     return all(any(lesser < rank and is_at_most(later, other) for other, lesser in ranks)
                for standing, rank in ranks for later in right_ways(plan, standing).values())
+
+
+def fewest_things(told, start, most):
+    """How few things can come in 1, 2, .. DAYS that lead from a STANDING back to it; None where none do."""
+    fewest, back = {start: 0}, []
+    for _ in range(most):
+        further = {}
+        for standing, many in fewest.items():
+            for day, later in told.ways[standing].items():
+                if later in told.lasting:
+                    further[later] = min(further.get(later, many + len(day)), many + len(day))
+        fewest = further
+        back.append(fewest.get(start))
+    return back
+
+
+def least_mean(told):
+    """The least number of things a DAY on any way from a STANDING back to it.
+
+    A way that comes to a STANDING twice is two of them, one of which has no more things a DAY.
+    """
+    return min(Fraction(many, days) for start in told.lasting
+               for days, many in enumerate(fewest_things(told, start, len(told.lasting)), 1) if many is not None)
+
+
+def share_pair(fraction):
+    return fraction.numerator, fraction.denominator

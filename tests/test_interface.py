@@ -14,6 +14,9 @@ FUNCTIONS = {
     "parts": ("are_parts(plan, value)", "folded(plan, base)", "folded_share(plan, base)", "best_base(plan)",
               "folded_parts(plan)", "day_by(plan, parts, day)", "next_by(plan, parts, number, day)",
               "row_by(plan, parts, many)"),
+    "gaps": ("least_gap(plan, number)", "tight(plan)", "widening(plan)", "fewest_hands(plan)"),
+    "loads": ("load(plan, value)", "least_load(plan)", "load_paper(plan)", "check_load(plan, paper)"),
+    "beside": ("parting_row(one, other)", "is_no_looser(one, other)", "are_alike(one, other)"),
 }
 CLASSES = {
     "errors": ("BadPlan(place)", "BadDay(value)", "BadRow(place)", "BadStanding(value)", "BadNumber(value)",

@@ -5,28 +5,14 @@ from math import prod
 from oftenenough.errors import BadPaper, BadPlan, Never, TooGreat
 from oftenenough.papers import check_plan, is_round, plan_paper, shortest_round
 from oftenenough.standings import does_last
-from tests.plain import Told, all_days, are_lost, fewest_days, goes_round, is_at_most
+from tests.plain import Told, all_days, are_lost, fewest_days, is_at_most, is_round_plainly
 from tests.values import (
-    GREATEST_GAP, INTEGERS, LONG, NO_INTEGERS, WRONG_PLANS, check_refused, check_result, raised,
+    GREATEST_GAP, GREAT_PLANS, INTEGERS, LONG, NO_INTEGERS, ROUNDS, THOUSAND_PLANS, WRONG_PLANS, check_refused,
+    check_result, otherwise, raised,
 )
 
 SMALL_PLANS = tuple((hands, gaps) for hands in (1, 2, 3) for many in (1, 2, 3, 4)
                     for gaps in itertools.product(range(1, 5), repeat=many) if prod(gaps) <= 32)
-# Plans and a right ROUND of each.
-ROUNDS = (
-    ((1, (1,)), ((0,),)),
-    ((1, (7,)), ((0,), (), (), (), (), (), ())),
-    ((1, (2, 2)), ((0,), (1,))),
-    ((1, (2, 4, 4)), ((0,), (1,), (0,), (2,))),
-    ((1, (3, 4, 5)), ((0,), (1,), (2,))),
-    ((1, (3, 4, 6)), ((2,), (1,), (0,), (), (1,), (0,))),
-    ((2, (1, 2, 3)), ((0, 1), (0, 2))),
-    ((2, (2, 2, 3, 3)), ((0, 1), (2, 3))),
-    ((3, (1, 2, 2, 2, 2)), ((0, 1, 2), (0, 3, 4))),
-    ((3, (2, 2)), ((0, 1),)),
-    ((2, (2, 2, GREATEST_GAP, GREATEST_GAP)), ((0, 2), (1, 3))),
-    ((1, (2, GREATEST_GAP, GREATEST_GAP - 1)), ((0,), (1,), (0,), (2,))),
-)
 LOST = (
     ((1, (1, 1)), (((1, 1), 0),)),
     ((1, (2, 2, 2)), (((1, 1, 2), 0), ((1, 2, 1), 0), ((2, 1, 1), 0), ((2, 2, 2), 1))),
@@ -40,29 +26,6 @@ LOST = (
         ((2, 2, 2, GREATEST_GAP), 1))),
     ((2, (1, 1, 1, GREATEST_GAP, GREATEST_GAP)), (((1, 1, 1, GREATEST_GAP, GREATEST_GAP), 77),)),
 )
-GREAT_PLANS = ((1, (1001,)), (1, (7, 11, 13)), (3, (2,) * 7 + (8,)), (1, (1, 1, 1001)), (2, (GREATEST_GAP, 1)),
-               (1, (GREATEST_GAP,) * 8))
-THOUSAND_PLANS = ((1, (1000,)), (1, (1, 1000)), (1, (2, 2, 250)), (1, (10, 10, 10)), (2, (2, 2, 2, 5, 25)),
-                  (3, (2, 2, 2, 5, 5, 5)), (3, (1, 5, 2, 2, 1, 2, 5, 5)), (1, (2, 4, 5, 25)), (2, (5, 2, 4, 5, 5)))
-
-
-def is_round_plainly(plan, value):
-    return (isinstance(value, tuple) and 1 <= len(value) <= 1000
-            and all(repr(day) in [repr(each) for each in all_days(plan)] for day in value) and goes_round(plan, value))
-
-
-def otherwise(value, things):
-    """The value with one thing otherwise, at each place of it: another thing there, it left out, or it twice."""
-    yield from things
-    if isinstance(value, tuple):
-        for at, item in enumerate(value):
-            for other in otherwise(item, things):
-                yield value[:at] + (other,) + value[at + 1:]
-            yield value[:at] + value[at + 1:]
-            yield value[:at] + (item,) + value[at:]
-        yield list(value)
-    elif isinstance(value, int):
-        yield from (value - 1, value + 1, -value, True, str(value), (value,))
 
 
 class IsRound(unittest.TestCase):

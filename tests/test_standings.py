@@ -7,7 +7,7 @@ from oftenenough.errors import BadPlan, BadStanding, TooGreat
 from oftenenough.standings import does_last, lasting_days, lasts, least_standings, longest
 from tests.plain import Told, is_at_most
 from tests.values import (
-    GREATEST_GAP, PLANS, WRONG_PLANS, check_refused, check_result, raised, wrong_standings,
+    GREAT_PLANS, PLANS, THOUSAND_PLANS, WRONG_PLANS, check_refused, check_result, raised, wrong_standings,
 )
 
 # In each of these all STANDINGS are looked at, in SMALL_PLANS only the first one and the least ones.
@@ -18,16 +18,6 @@ LOOKED_AT_PLANS = (
 )
 SMALL_PLANS = tuple((hands, gaps) for hands in (1, 2, 3) for many in (1, 2, 3, 4)
                     for gaps in itertools.combinations_with_replacement(range(1, 6), many) if prod(gaps) <= 100)
-# Each has just 1,000 STANDINGS.
-THOUSAND_PLANS = (
-    (1, (1000,)), (1, (1, 1000)), (1, (2, 500)), (1, (10, 10, 10)), (1, (2, 2, 250)), (1, (2, 5, 100)),
-    (1, (5, 2, 4, 25)), (2, (1, 1, 1000)), (2, (2, 2, 2, 5, 25)), (2, (5, 2, 5, 2, 10)), (3, (1, 1, 10, 100)),
-    (3, (2, 2, 2, 5, 5, 5)), (3, (5, 1, 2, 2, 2, 1, 5, 5)),
-)
-MORE_PLANS = (
-    (1, (1001,)), (1, (7, 11, 13)), (2, (1001, 1)), (3, (143, 7)), (3, (2,) * 7 + (8,)),
-    (1, (GREATEST_GAP,)), (1, (GREATEST_GAP,) * 8), (2, (1, GREATEST_GAP, 1)),
-)
 
 
 def sorted_gaps(most, many, least=1):
@@ -175,7 +165,7 @@ class Thousand(unittest.TestCase):
         self.assertLessEqual({(1, True), (1, False), (2, True), (2, False), (3, True)}, found)
 
     def test_one_more_is_too_great(self):
-        for plan in MORE_PLANS:
+        for plan in GREAT_PLANS:
             self.assertGreater(prod(plan[1]), 1000)
             check_refused(self, TooGreat, "most", 1000, does_last, plan=plan)
             check_refused(self, TooGreat, "most", 1000, least_standings, plan=plan)
@@ -194,7 +184,7 @@ class Refused(unittest.TestCase):
                     check_refused(self, BadPlan, "place", place, call, plan=plan, standing=standing)
 
     def test_a_wrong_standing_ahead_of_too_many(self):
-        for plan in PLANS + MORE_PLANS:
+        for plan in PLANS + GREAT_PLANS:
             for standing in wrong_standings(plan):
                 for call in (lasts, lasting_days, longest):
                     check_refused(self, BadStanding, "value", standing, call, plan=plan, standing=standing)

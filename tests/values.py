@@ -33,6 +33,33 @@ PLANS = (
     (3, (1,) * 8),
 )
 
+# Each has just 1,000 STANDINGS.
+THOUSAND_PLANS = (
+    (1, (1000,)), (1, (1, 1000)), (1, (2, 500)), (1, (10, 10, 10)), (1, (2, 2, 250)), (1, (2, 5, 100)),
+    (1, (2, 4, 5, 25)), (1, (5, 2, 4, 25)), (2, (1, 1, 1000)), (2, (2, 2, 2, 5, 25)), (2, (5, 2, 4, 5, 5)),
+    (2, (5, 2, 5, 2, 10)), (3, (1, 1, 10, 100)), (3, (2, 2, 2, 5, 5, 5)), (3, (5, 1, 2, 2, 2, 1, 5, 5)),
+)
+# Each has more.
+GREAT_PLANS = (
+    (1, (1001,)), (1, (7, 11, 13)), (1, (1, 1, 1001)), (2, (1001, 1)), (3, (143, 7)), (3, (2,) * 7 + (8,)),
+    (1, (GREATEST_GAP,)), (1, (GREATEST_GAP,) * 8), (2, (1, GREATEST_GAP, 1)),
+)
+# Plans and a right ROUND of each.
+ROUNDS = (
+    ((1, (1,)), ((0,),)),
+    ((1, (7,)), ((0,), (), (), (), (), (), ())),
+    ((1, (2, 2)), ((0,), (1,))),
+    ((1, (2, 4, 4)), ((0,), (1,), (0,), (2,))),
+    ((1, (3, 4, 5)), ((0,), (1,), (2,))),
+    ((1, (3, 4, 6)), ((2,), (1,), (0,), (), (1,), (0,))),
+    ((2, (1, 2, 3)), ((0, 1), (0, 2))),
+    ((2, (2, 2, 3, 3)), ((0, 1), (2, 3))),
+    ((3, (1, 2, 2, 2, 2)), ((0, 1, 2), (0, 3, 4))),
+    ((3, (2, 2)), ((0, 1),)),
+    ((2, (2, 2, GREATEST_GAP, GREATEST_GAP)), ((0, 2), (1, 3))),
+    ((1, (2, GREATEST_GAP, GREATEST_GAP - 1)), ((0,), (1,), (0,), (2,))),
+)
+
 # Each of these is wrong at the place beside it, and not before.
 WRONG_PLANS = tuple(
     [(value, ()) for value in NO_INTEGERS + INTEGERS if value != (1, 2) and value != (None, 1)]
@@ -57,6 +84,20 @@ WRONG_PLANS = tuple(
     + [((3, (1,) * 7 + (gap,)), (1, 7)) for gap in (True, 0, GREATEST_GAP + 1, None)]
     + [((3, (1, 0, True, None)), (1, 1)), ((3, (1, 2, "3", 0)), (1, 2))]
 )
+
+
+def otherwise(value, things):
+    """The value with one thing otherwise, at each place of it: another thing there, it left out, or it twice."""
+    yield from things
+    if isinstance(value, tuple):
+        for at, item in enumerate(value):
+            for other in otherwise(item, things):
+                yield value[:at] + (other,) + value[at + 1:]
+            yield value[:at] + value[at + 1:]
+            yield value[:at] + (item,) + value[at:]
+        yield list(value)
+    elif isinstance(value, int):
+        yield from (value - 1, value + 1, -value, True, str(value), (value,))
 
 
 def wrong_standings(plan):
