@@ -9,6 +9,10 @@ import builtins
 import re
 import warnings
 
+from tests.language_classes import (
+    CHANGING, ERRORS, SPECIAL_METHODS, check_handler, check_lambda, check_special_method, check_with, properties_of,
+)
+
 PACKAGE = "oftenenough"
 LIBRARY = {
     "heapq": {"heappush", "heappop", "heapify", "heapreplace", "heappushpop"},
@@ -16,22 +20,17 @@ LIBRARY = {
     "itertools": {"product", "combinations", "permutations"},
 }
 PRODUCTS = LIBRARY["itertools"]
-ERRORS = {
-    "Exception", "ValueError", "TypeError", "KeyError", "IndexError", "LookupError", "ZeroDivisionError",
-    "ArithmeticError", "OverflowError", "RuntimeError", "NotImplementedError",
-}
 # Sets, bytes, iter, next, map and chr are left out: nothing needs them so far.
 CALLED = {
     "len", "range", "enumerate", "zip", "min", "max", "sum", "abs", "sorted", "reversed", "int", "str", "bool",
     "list", "tuple", "dict", "isinstance", "ord", "repr", "any", "all", "divmod",
 }
 SHAPES = {"int", "str", "bool", "bytes", "list", "tuple", "dict"}
-KEYWORDS = {"sorted": {"reverse"}, "min": {"default"}, "max": {"default"}, "sum": {"start"},
+KEYWORDS = {"sorted": {"key", "reverse"}, "min": {"key", "default"}, "max": {"key", "default"}, "sum": {"start"},
             "enumerate": {"start"}, "zip": {"strict"}}
 LAZY = {"zip", "enumerate", "reversed", "range"} | PRODUCTS
 LAZY_METHODS = {"items", "keys", "values"}
 TAKES_LAZY = {"list", "tuple", "dict", "sorted", "sum", "any", "all", "enumerate", "zip", "min", "max"}
-CHANGING = {"append", "clear", "extend", "insert", "pop", "remove", "reverse", "setdefault", "update"}
 METHODS = CHANGING | LAZY_METHODS | set(
     """copy count endswith find get index isalnum isalpha isdigit islower isspace isupper join ljust lower lstrip
     partition replace rfind rjust rpartition rsplit rstrip split splitlines startswith strip upper zfill
@@ -51,7 +50,8 @@ NODES = tuple(
     getattr(ast, name) for name in
     """Module ImportFrom alias FunctionDef ClassDef arguments arg Return Assign AugAssign For While If Raise Assert
     Pass Break Continue Expr BoolOp BinOp UnaryOp IfExp Compare Call keyword Constant Attribute Subscript Slice
-    Name List Tuple Dict ListComp DictComp comprehension expr_context boolop operator unaryop cmpop""".split())
+    Name List Tuple Dict ListComp DictComp comprehension expr_context boolop operator unaryop cmpop
+    Try ExceptHandler With withitem Lambda""".split())
 PLAIN = (ast.Constant, ast.List, ast.Tuple, ast.Dict, ast.BinOp, ast.UnaryOp, ast.operator, ast.unaryop,
          ast.expr_context, ast.Name)
 
@@ -95,12 +95,14 @@ def text_complaints(name, text):
 
 def own_names(trees):
     """What the package itself defines: its functions and classes, its methods, and its attributes."""
-    own = {"classes": set(), "errors": set(ERRORS), "methods": set(), "attributes": set()}
+    own = {"classes": set(), "errors": set(ERRORS), "methods": set(), "attributes": set(), "properties": set()}
     for tree in trees.values():
         for node in ast.walk(tree):
             if isinstance(node, ast.ClassDef):
                 own["classes"].add(node.name)
-                own["methods"] |= {item.name for item in node.body if isinstance(item, ast.FunctionDef)}
+                names = {item.name for item in node.body if isinstance(item, ast.FunctionDef)}
+                own["methods"] |= names - properties_of(node)
+                own["properties"] |= properties_of(node)
             if isinstance(node, ast.Attribute) and isinstance(node.ctx, ast.Store):
                 own["attributes"].add(node.attr)
     # A base may stand in a later file: look until no class is added.
@@ -137,7 +139,8 @@ def module_complaints(tree):
         if isinstance(node, ast.Assign):
             if len(node.targets) != 1 or not isinstance(node.targets[0], ast.Name):
                 told.append(("L3", node.lineno, "not one name"))
-            if not all(isinstance(part, PLAIN) for part in ast.walk(node.value)):
+            read = {part.id for part in ast.walk(node.value) if isinstance(part, ast.Name)}
+            if not all(isinstance(part, PLAIN) for part in ast.walk(node.value)) or read - names:
                 told.append(("L3", node.lineno, "not a plain value"))
         elif not (is_import or is_docstring or isinstance(node, (ast.FunctionDef, ast.ClassDef))):
             told.append(("L3", node.lineno, "not at module level"))
@@ -175,7 +178,7 @@ def check_function(node, own):
     if isinstance(node, ast.FunctionDef):
         if node.end_lineno - node.lineno + 1 > 40:
             yield "L10", f"{node.name} is long"
-        if node.decorator_list:
+        if node.decorator_list and node.name not in own["properties"]:
             yield "L4", f"{node.name} has a decorator"
         if not isinstance(node.above, (ast.Module, ast.ClassDef)):
             yield "L4", f"{node.name} is nested"
@@ -185,7 +188,7 @@ def check_function(node, own):
         if node.returns or any(each.annotation for each in given.args):
             yield "L21", f"{node.name} has annotations"
         in_class = isinstance(node.above, ast.ClassDef)
-        if node.name.startswith("__") and not (in_class and node.name == "__init__"):
+        if node.name.startswith("__") and not (in_class and node.name in SPECIAL_METHODS):
             yield "L5", f"{node.name} is not among the methods that are used"
         if in_class and node.name in CHANGING | LAZY_METHODS:
             yield "L26", f"{node.name} is a builtin value's method"
@@ -272,7 +275,7 @@ def check_call(node, own):
         name = getattr(node.func, "id", None)
         words = {word.arg for word in node.keywords}
         builtin = name in CALLED or name in own["errors"] & ERRORS or name in set().union(*LIBRARY.values())
-        if builtin and words - KEYWORDS.get(name, set()):
+        if builtin and words - KEYWORDS.get(name, set()) or "default" in words and len(node.args) != 1:
             yield "L22", f"{name} with a keyword"
         if None in words or words & {"self", "open", "input"}:
             yield "L22", "a keyword that is not used"
@@ -295,7 +298,7 @@ def method_call(node, own):
             yield "L5", "super for something else"
         if node.keywords or not all(isinstance(each, ast.Constant) for each in node.args):
             yield "L22", "an error is made with other than texts"
-    elif method not in METHODS and method not in own["methods"] - {"__init__"}:
+    elif method not in METHODS and method not in own["methods"] - set(SPECIAL_METHODS):
         yield "L25", f"{method} is no method that is used"
     elif method in METHODS and node.keywords:
         yield "L25", f"{method} with a keyword"
@@ -327,13 +330,13 @@ def check_name(node, own):
         names = [node.arg]
     elif isinstance(node, ast.Attribute):
         names = [node.attr]
-        if isinstance(node.ctx, ast.Store) and node.attr in NO_ATTRIBUTES | own["methods"]:
+        if isinstance(node.ctx, ast.Store) and node.attr in NO_ATTRIBUTES | own["methods"] | own["properties"]:
             yield "L26", f"the attribute {node.attr}"
         if isinstance(node.ctx, ast.Load) and not isinstance(node.above, ast.Call):
-            if node.attr not in own["attributes"]:
+            if node.attr not in own["attributes"] | own["properties"]:
                 yield "L18", f"the attribute {node.attr} is never assigned"
     for name in names:
-        if name != "__init__" and not re.fullmatch(r"_?[A-Za-z][A-Za-z0-9_]*|_", name):
+        if name not in SPECIAL_METHODS and not re.fullmatch(r"_?[A-Za-z][A-Za-z0-9_]*|_", name):
             yield "L12", f"the name {name}"
         if name in BARRED_NAMES | BARRED_WORDS or re.match(r"_(pe|dcw|enum|cm|twin_re|lay|law|stub)_|_sre", name):
             yield "L17", f"the name {name}"
@@ -342,7 +345,7 @@ def check_name(node, own):
 
 
 CHECKS = (check_import, check_function, check_class, check_statement, check_constant, check_operator,
-          check_call, check_name)
+          check_call, check_name, check_special_method, check_handler, check_with, check_lambda)
 
 
 def name_complaints(tree):
@@ -367,6 +370,8 @@ def name_complaints(tree):
 def builtin_complaints(part):
     above = part.above
     if isinstance(above, ast.Call) and above.func is part and part.id in CALLED | ERRORS | {"super"}:
+        return []
+    if isinstance(above, ast.FunctionDef) and part in above.decorator_list and part.id == "property":
         return []
     in_shapes = above.above if isinstance(above, ast.Tuple) else above
     if isinstance(in_shapes, ast.Call) and getattr(in_shapes.func, "id", None) == "isinstance" and part.id in SHAPES:
