@@ -32,10 +32,11 @@ def in_turn(gaps, steps):
     """The STANDINGS that last in an order in which their HEIGHTS are soon found, one by the other.
 
     The thing with the greatest GAP comes least often. As long as it does not come, each DAY leads to a STANDING that
-    is ahead in this order.
+    is ahead in this order. (Of the others the lesser GAPS go first: by trial this takes the fewest turns.)
     """
-    seldom = gaps.index(max(gaps))
-    return [standing for _, standing in sorted([(standing[seldom], standing) for standing in steps])]
+    numbers = [number for _, number in sorted([(gap, number) for number, gap in enumerate(gaps)])]
+    turns = [([standing[number] for number in numbers[-1:] + numbers], standing) for standing in steps]
+    return [standing for _, standing in sorted(turns)]
 
 
 def ways_by_number(standings, steps):

@@ -170,8 +170,8 @@ class Many(unittest.TestCase):
     def test_just_twenty_thousand_are_let_by(self):
         for one, other, row in JUST_ENOUGH:
             self.assertEqual(prod(one[1] + other[1]), 20000)
-            check_result(self, None, parting_row, one=one, other=other)
-            check_result(self, row, parting_row, one=other, other=one)
+            self.assertIsNone(parting_row(one, other))
+            self.assertEqual(parting_row(other, one), row)
             self.assertIs(is_no_looser(one, other), True)
             self.assertIs(is_no_looser(other, one), False)
             self.assertIs(are_alike(one, other), False)

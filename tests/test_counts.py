@@ -107,7 +107,7 @@ class Known(unittest.TestCase):
 
     def test_there_and_back_by_a_thousand_standings(self):
         for plan in THOUSAND_PLANS:
-            for many in (0, 1, 20):
+            for many in (1, 20):
                 self.check_there_and_back(plan, many)
         self.check_there_and_back((3, (2, 2, 2, 5, 5, 5)), 200)
         self.check_there_and_back((1, (10, 10, 10)), 200)

@@ -180,7 +180,7 @@ class Papers(unittest.TestCase):
         self.assertEqual((len(days), least), (1000, (1, 1000)))
 
     def test_plans_on_which_heights_are_long_lowered(self):
-        for plan in ((3, (2, 99, 1, 5)), (2, (2, 499)), (3, (99, 5, 2)), (2, (8, 9, 13)), (2, (5, 11, 18))):
+        for plan in ((3, (2, 99, 1, 5)), (2, (2, 499)), (3, (13, 3, 11, 2)), (2, (8, 9, 13)), (2, (5, 11, 18))):
             self.check_paper(plan)
 
 
